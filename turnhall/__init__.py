@@ -1,0 +1,1 @@
+"""Turnhall: many hands on one book, as if one behind the other."""
