@@ -1,7 +1,7 @@
 """What ../shared/LANGUAGE.md asks of the package's files, as far as a reading of them shows it.
 
-Each check tells a list of (rule, line). What is not here (most of L13, L15, L18, L19, L22, L23, L26, L28) is left
-to the reader's eye.
+Each check tells a list of (rule, line). Not every rule is here: L9, L11, L13, L18, L21, L22, L23, L26 and L28 hardly or
+not at all, L15, L19 and L27 in part. These are left to the reader's eye.
 """
 
 import ast
