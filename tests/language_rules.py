@@ -1,7 +1,7 @@
 """What ../shared/LANGUAGE.md asks of the package's files, as far as a reading of them shows it.
 
-Each check tells a list of (rule, line). Not every rule is here: L9, L11, L13, L18, L21, L22, L23, L26 and L28 hardly or
-not at all, L15, L19 and L27 in part. These are left to the reader's eye.
+Each check tells a list of (rule, line). Not every rule is here: L9, L11, L13 and L21 hardly or not at all, L15, L18,
+L19, L22, L23, L27 and L28 in part. These are left to the reader's eye.
 """
 
 import ast
@@ -26,6 +26,15 @@ UNUSED_WORDS = re.compile(
     r"\b(type|typing|typing_extensions|enum|Enum|IntEnum|StrEnum|Flag|IntFlag|Generic|Protocol|ABC|ABCMeta|namedtuple"
     r"|NamedTuple|TypedDict|TYPE_CHECKING|abstractmethod)\b|dataclass|overload|contextmanager"
 )
+OWN_VALUES = (str, int, list, tuple, dict, set, bytes)
+CHANGING_OR_WALKED = set("""
+    items keys values pop update append clear extend insert remove reverse setdefault sort args encode format
+""".split())
+VALUES_LIKE_METHODS = set("count index title find get join lower upper split strip copy add".split())
+KEYWORDS = {"sorted": {"key", "reverse"}, "min": {"key", "default"}, "max": {"key", "default"}, "sum": {"start"},
+            "enumerate": {"start"}, "zip": {"strict"}}
+WALKED_AT_ONCE = {"zip", "enumerate", "reversed", "range", "items", "keys", "values"}
+WALKING = {"list", "tuple", "dict", "sorted", "sum", "any", "all", "enumerate", "zip", "min", "max", "join"}
 PLAIN_FILE = re.compile(r"[a-z][a-z0-9_]*\.py")
 UNUSED_FILE = re.compile(r"test|tests|testing|test_.*|site|conftest|sitecustomize|usercustomize")
 STATEMENTS = (
@@ -44,10 +53,17 @@ def faults_of_file(name, text, own_methods):
     nodes = list(ast.walk(tree))
     found = file_name_faults(name) + sign_faults(text) + top_faults(tree)
     for node in nodes:
-        for check in (kind_faults, def_faults, name_faults, value_faults):
+        for check in (kind_faults, def_faults, name_faults, value_faults, call_faults):
             found.extend((rule, getattr(node, "lineno", 0)) for rule in check(node))
         found.extend((rule, node.lineno) for rule in method_faults(node, own_methods))
-    return found + set_faults(nodes)
+    return found + set_faults(nodes) + walk_faults(nodes) + local_faults(tree)
+
+
+def faults_between_files(texts):
+    """L18: no name is a method in one class and a value in another."""
+    methods = set().union(*[methods_in(text) for text in texts])
+    values = set().union(*[values_in(text) for text in texts])
+    return [("L18", name) for name in sorted(methods & values)]
 
 
 def file_name_faults(name):
@@ -123,6 +139,15 @@ def def_faults(node):
             yield "L5"
         if any(not isinstance(part, (ast.FunctionDef, ast.Pass)) for part in node.body):
             yield "L5"
+        methods = [part.name for part in node.body if isinstance(part, ast.FunctionDef)]
+        if len(methods) > len(set(methods)):
+            yield "L18"
+        for name in methods:
+            if is_of_own_values(name) and name not in ALLOWED_METHODS | ALLOWED_DUNDERS | {"add", "discard"}:
+                yield "L26"
+        for part in node.body:
+            if getattr(part, "name", "") == "__init__":
+                yield from ("L28" for inner in ast.walk(part) if isinstance(inner, ast.Return) and inner.value)
 
 
 def name_faults(node):
@@ -164,6 +189,42 @@ def method_faults(node, own_methods):
             yield "L25"
 
 
+def call_faults(node):
+    if isinstance(node, ast.Raise) and not isinstance(node.exc, ast.Call):
+        yield "L19"
+    if isinstance(node, ast.Call) and isinstance(node.func, ast.Name) and hasattr(builtins, node.func.id):
+        if not {word.arg for word in node.keywords} <= KEYWORDS.get(node.func.id, set()):
+            yield "L22"
+    if isinstance(node, ast.Attribute) and isinstance(node.ctx, ast.Store):
+        if node.attr in CHANGING_OR_WALKED or is_of_own_values(node.attr) and node.attr not in VALUES_LIKE_METHODS:
+            yield "L26"
+
+
+def walk_faults(nodes):
+    good = {}
+    for node in nodes:
+        if isinstance(node, (ast.For, ast.comprehension)):
+            good[node.iter] = True
+        elif isinstance(node, ast.Call) and named(node.func) in WALKING:
+            good.update((part, True) for part in (node.args if named(node.func) == "zip" else node.args[:1]))
+    walked = [node for node in nodes if isinstance(node, ast.Call) and named(node.func) in WALKED_AT_ONCE]
+    return [("L23", node.lineno) for node in walked if node not in good]
+
+
+def local_faults(tree):
+    outer = {node.name for node in tree.body if isinstance(node, ast.ClassDef)}
+    for node in tree.body:
+        if isinstance(node, ast.ImportFrom):
+            outer.update(alias.asname or alias.name for alias in node.names)
+    defs = [node for node in ast.walk(tree) if isinstance(node, ast.FunctionDef)]
+    inner = [node for top in defs for node in ast.walk(top) if isinstance(node, (ast.Name, ast.arg))]
+    return [("L15", node.lineno) for node in inner if bound_name(node) in outer]
+
+
+def is_of_own_values(name):
+    return any(hasattr(kind, name) for kind in OWN_VALUES)
+
+
 def set_faults(nodes):
     good = {}
     for node in nodes:
@@ -198,6 +259,11 @@ def bound_name(node):
 def methods_in(text):
     classes = [node for node in ast.parse(text).body if isinstance(node, ast.ClassDef)]
     return {part.name for node in classes for part in node.body if isinstance(part, ast.FunctionDef)}
+
+
+def values_in(text):
+    nodes = [node for node in ast.walk(ast.parse(text)) if isinstance(node, ast.Attribute)]
+    return {node.attr for node in nodes if isinstance(node.ctx, ast.Store)}
 
 
 def names_at_top(text):

@@ -5,7 +5,7 @@ from pathlib import Path
 HERE = Path(__file__).resolve().parent
 sys.path.insert(0, str(HERE))
 
-from language_rules import drawn_from, faults_of_file, methods_in, names_at_top
+from language_rules import drawn_from, faults_between_files, faults_of_file, methods_in, names_at_top
 
 PACKAGE = HERE.parent / "turnhall"
 
@@ -26,6 +26,9 @@ class TestPackage(unittest.TestCase):
         for name, text in texts.items():
             with self.subTest(file=name):
                 self.assertEqual(faults_of_file(name, text, own_methods), [])
+
+    def test_no_name_is_a_method_here_and_a_value_there(self):
+        self.assertEqual(faults_between_files(list(package_texts().values())), [])
 
     def test_names_are_drawn_from_the_file_that_defines_them(self):
         texts = package_texts()
@@ -75,14 +78,24 @@ class TestRules(unittest.TestCase):
         ("L14", "A = 1\t# a\n"),
         ("L15", "A = 1\nA = 2\n"),
         ("L15", "def f(hash):\n    return hash\n"),
+        ("L15", "from turnhall.keys import is_key\ndef f(is_key):\n    return is_key\n"),
+        ("L15", "class A:\n    pass\ndef f():\n    A = 1\n    return A\n"),
         ("L17", "A = 1  # what type it has\n"),
         ("L17", "class A:\n    def register(self):\n        return 1\n"),
+        ("L18", "class A:\n    def b(self):\n        return 1\n    def b(self):\n        return 2\n"),
+        ("L19", "def f(a):\n    raise a\n"),
         ("L19", "def f(a):\n    try:\n        return a[0]\n    except Exception:\n        return 0\n"),
         ("L20", "def f(a, b):\n    return a is b\n"),
+        ("L22", "def f(a):\n    return list(a=a)\n"),
+        ("L23", "def f(a):\n    b = a.items()\n    return b\n"),
+        ("L23", "def f(a):\n    return range(a)\n"),
         ("L24", "def f(a):\n    b = set(a)\n    return len(b)\n"),
         ("L25", "def f(a):\n    a.sort()\n"),
+        ("L26", "class A:\n    def __init__(self):\n        self.keys = 1\n"),
+        ("L26", "class A:\n    def casefold(self):\n        return 1\n"),
         ("L27", "def f(n):\n    return 2 ** n\n"),
         ("L27", "A = '%'\n"),
+        ("L28", "class A:\n    def __init__(self):\n        return None\n"),
     )
     GOOD = (
         "from __future__ import annotations\nfrom turnhall.keys import is_key\n",
@@ -90,6 +103,7 @@ class TestRules(unittest.TestCase):
         "def f(a):\n    return sorted(set(a) - set([1]))\n",
         "def f(a, b):\n    return a in set(b) or a is None\n",
         "class A:\n    def __init__(self, a):\n        self.a = a\n\n    def b(self):\n        return self.a ** 2\n",
+        "def f(a):\n    return [b for b in sorted(a.items(), reverse=True)] + list(range(3))\n",
     )
 
     def test_bad_code_is_found(self):
@@ -101,6 +115,12 @@ class TestRules(unittest.TestCase):
         for text in self.GOOD:
             with self.subTest(text=text):
                 self.assertEqual(faults_of_file("plain.py", text, set()), [])
+
+    def test_a_method_here_and_a_value_there_is_found(self):
+        method = "class A:\n    def b(self):\n        return 1\n"
+        value = "class C:\n    def __init__(self):\n        self.b = 1\n"
+        self.assertEqual(faults_between_files([method, value]), [("L18", "b")])
+        self.assertEqual(faults_between_files([method, method]), [])
 
     def test_file_names(self):
         for name in ("tests.py", "test_a.py", "Keys.py", "site.py", "filter.py", "enum.py", "a-b.py"):
