@@ -237,6 +237,17 @@ class TestMoreAllRound(unittest.TestCase):
         self.assertEqual(given_up_in(hall), [2, 1])
         self.assertEqual((states(hall, 3), hall.done_by(0)[-1]), (["going", "given up", "given up"], ("read", "b", 0)))
 
+    def test_all_those_ahead_in_the_row_are_in_the_ring(self):
+        hall = hall_with(5)
+        hall.write(0, "a", 1)
+        hall.write(2, "c", 1)
+        for deed in (1, 4, 3):
+            self.assertEqual(hall.read(deed, "a"), ("waits",))
+        self.assertEqual(hall.read(0, "c"), ("waits",))
+        self.assertEqual(hall.read(2, "a"), ("given up",))
+        self.assertEqual(given_up_in(hall), [4, 3, 2])
+        self.assertEqual(states(hall, 5), ["going", "waiting", "given up", "given up", "given up"])
+
     def test_a_reader_is_in_a_ring_with_a_reader_ahead_of_it(self):
         hall = hall_with(4)
         hall.read(0, "a")
